@@ -1,0 +1,1 @@
+"""Money orders of offices that lose power, over lines that lose and double."""
