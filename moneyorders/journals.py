@@ -3,6 +3,7 @@
 BANK = "bank"
 BEGUN = "begun"
 DONE = "done"
+NOT_DONE = "not done"
 GRANTED = "granted"
 CLOSED = "closed"
 GIVEN_BACK = "given back"
@@ -76,10 +77,17 @@ class Office:
         self.orders = {}
         self.claims = {}
 
+    def brought(self):
+        return sum([record[1] for record in self.journal if record[0] == BANK])
+
+    def acts_done(self):
+        return [record[1] for record in self.journal if record[0] == DONE]
+
+    def cash_of(self, kind):
+        return sum([act.cash for act in self.acts_done() if act.kind == kind])
+
     def book(self):
-        brought = sum([record[1] for record in self.journal if record[0] == BANK])
-        acts = sum([record[1].cash for record in self.journal if record[0] == DONE])
-        return brought + acts
+        return self.brought() + sum([act.cash for act in self.acts_done()])
 
     def bring(self, coins):
         self.journal.append((BANK, coins))
@@ -99,6 +107,19 @@ class Office:
         self.write_done(act)
         self.up = True
 
+    # Answers what was written of the act that a cut left open, or None. Only the last record can be such an act,
+    # as nothing is written while an office is down; and the drawer tells whether its cash went.
+    def come_up(self):
+        self.up = True
+        if not self.journal or self.journal[-1][0] != BEGUN:
+            return None
+        act = self.journal[-1][1]
+        if self.drawer == self.book():
+            self.write_not_done(act)
+            return NOT_DONE
+        self.write_done(act)
+        return DONE
+
     def write_begun(self, act):
         self.journal.append((BEGUN, act))
         if act.kind == ISSUING:
@@ -112,6 +133,9 @@ class Office:
             act.subject.paid = True
         else:
             act.subject.refunded = True
+
+    def write_not_done(self, act):
+        self.journal.append((NOT_DONE, act))
 
     def write_granted(self, n, holder, till):
         order = self.orders[n]
@@ -130,23 +154,27 @@ class Office:
 
     def write_known(self, n, g, coins, till):
         self.journal.append((KNOWN, n, g, coins, till))
-        claim = self.claim_of(n, g)
+        claim = self.claim_to_write(n, g)
         claim.coins = coins
         claim.till = till
         claim.known = True
 
     def write_given_up(self, n, g):
         self.journal.append((GIVEN_UP, n, g))
-        claim = self.claim_of(n, g)
+        claim = self.claim_to_write(n, g)
         claim.given_up = True
 
+    # Asking must leave no trace, so a grant of which nothing was written is shown by a claim that isn't kept.
     def claim_of(self, n, g):
+        return self.claims.get((n, g), Claim(n, g))
+
+    def claim_to_write(self, n, g):
         return self.claims.setdefault((n, g), Claim(n, g))
 
+    def known_claims(self, n):
+        known = [claim for claim in self.claims.values() if claim.order == n and claim.known]
+        return sorted(known, key=lambda claim: claim.grant)
+
     def payable(self, n):
-        last = None
-        for claim in self.claims.values():
-            later = last is None or claim.grant > last.grant
-            if claim.order == n and claim.may_pay() and later:
-                last = claim
-        return last
+        left = [claim for claim in self.known_claims(n) if claim.may_pay()]
+        return left[-1] if left else None

@@ -12,6 +12,7 @@ OUTSIDE = -12
 MOST_CASH = 1000000000
 MOST_KEY = 9999
 MOST_NUMBER = 100000
+MOST_GRANT = 1000
 MOST_CUT = 3
 MOST_MESSAGES = 300
 MOST_ISSUES = 100
@@ -27,6 +28,10 @@ def bad_number(n):
 
 def bad_key(key):
     return outside(key, 0, MOST_KEY)
+
+
+def bad_grant(g):
+    return outside(g, 0, MOST_GRANT)
 
 
 def bad_cut(cut):

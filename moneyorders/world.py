@@ -41,6 +41,9 @@ class World:
     def all_cash(self):
         return sum([office.drawer for office in self.offices])
 
+    def all_records(self):
+        return sum([len(office.journal) for office in self.offices])
+
     def send(self, message):
         self.messages.append(message)
         return len(self.messages) - 1
