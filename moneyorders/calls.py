@@ -227,7 +227,8 @@ def count_drawer(world, o):
     if refusal:
         return [refusal]
     office = world.offices[o]
-    return [counted(office.come_up()), office.drawer, office.book()]
+    outcome = counted(office.come_up())
+    return [outcome, office.drawer, office.book()]
 
 
 def still_up(world, o):
